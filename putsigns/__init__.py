@@ -1,0 +1,1 @@
+"""Putsigns: signs and brackets put between told numbers."""

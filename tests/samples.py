@@ -1,0 +1,109 @@
+"""What the tests share: things of all kinds, and ways listed and ordered by the document's words alone."""
+
+import functools
+
+from putsigns import errors
+
+SIGNS_TO_PUT = ("+", "-", "*", "+-", "+*", "-*", "+-*")
+REFUSALS = (
+    errors.NoRow, errors.NoSigns, errors.NoWay, errors.NoNumber, errors.NoPlace, errors.NoFit,
+    errors.NoForm, errors.NoHolds, errors.TooMany, errors.NoText, errors.NoAsk,
+)
+NINE = [1, 2, 3, 4, 5, 6, 7, 8, 9]
+
+
+class Prickly:
+    """A thing that fails as soon as it is compared, measured, hashed, shown or asked for a truth."""
+
+    def fail(self, *others):
+        raise RuntimeError("this thing was touched")
+
+    __eq__ = __ne__ = __lt__ = __gt__ = __le__ = __ge__ = fail
+    __hash__ = __len__ = __bool__ = __iter__ = __getitem__ = fail
+    __contains__ = __repr__ = __str__ = __int__ = __index__ = fail
+
+
+def within(innermost, wrap, depth):
+    """Wrap a thing so many times."""
+    thing = innermost
+    for step in range(depth):
+        thing = wrap(thing)
+    return thing
+
+
+def left_way(numbers, sign="+"):
+    """The way that joins its numbers from left to right."""
+    return functools.reduce(lambda left, right: (sign, left, right), numbers)
+
+
+def right_way(numbers, sign="+"):
+    """The way that joins its numbers from right to left."""
+    return functools.reduce(lambda right, left: (sign, left, right), reversed(numbers))
+
+
+def anything():
+    """Things that are no rows, no signs to put, no ways and no whole numbers."""
+    return [
+        None, True, False, Ellipsis, NotImplemented, Prickly(), Prickly, object(), len, lambda: 1,
+        "", " ", "1", "x", "++", "-+", "+-*+", "/", "~1", b"", b"+", b"1", bytes(9),
+        [], [None], [True], [1, True], [1, False, 2], ["1"], [[1]], [(1,)], [Prickly()], list(range(10)), [1] * 900,
+        (), (1,), (1, 2), (1, 2, 3), ("+",), ("+", 1), ("+", 1, 2, 3), ("/", 1, 2), ("", 1, 2), ("+-", 1, 2),
+        (Prickly(), 1, 2), ("+", Prickly(), 2), ("+", 1, Prickly()), (["+"], 1, 2), (b"+", 1, 2), (None, 1, 2),
+        ["+", 1, 2], ("+", ["+", 1, 2], 3), ("+", 1, True), ("+", False, 1), ("*", 1, None), ("*", [1], 2),
+        {}, {1: 2}, {"+": 1}, set(), {1, 2}, frozenset([1]), range(3), iter([1]), ValueError("x"), zip([1]),
+        within([], lambda thing: [thing], 49), within((), lambda thing: (thing,), 49),
+        within("x", lambda thing: ("+", thing, 1), 50), within(1, lambda thing: ("+", thing, 1), 50),
+        within(1, lambda thing: ("*", 1, thing), 9), within({}, lambda thing: {1: thing}, 49),
+    ]
+
+
+def refusal(call, *arguments):
+    """The class with which a call refuses, or None."""
+    try:
+        call(*arguments)
+    except errors.PutError as refused:
+        return refused.__class__
+    return None
+
+
+def all_ways(numbers, signs):
+    """All ways of the numbers with the signs, in no order that is promised."""
+    if len(numbers) == 1:
+        return [numbers[0]]
+    return [
+        (sign, left, right)
+        for cut in range(len(numbers) - 1, 0, -1)
+        for right in all_ways(numbers[cut:], signs)
+        for left in all_ways(numbers[:cut], signs)
+        for sign in signs
+    ]
+
+
+def count_numbers(way):
+    return 1 if isinstance(way, int) else count_numbers(way[1]) + count_numbers(way[2])
+
+
+def compare(one, other):
+    """Below 0 where the one way goes ahead of the other way of the same row, by [7]."""
+    if isinstance(one, int):
+        return 0
+    by_left = count_numbers(one[1]) - count_numbers(other[1])
+    by_sign = "+-*".index(one[0]) - "+-*".index(other[0])
+    return by_left or by_sign or compare(one[1], other[1]) or compare(one[2], other[2])
+
+
+def ways_in_order(numbers, signs):
+    return sorted(all_ways(numbers, signs), key=functools.cmp_to_key(compare))
+
+
+def written(way):
+    """The writing of a way by [6]."""
+    if isinstance(way, int):
+        return str(way).replace("-", "~")
+    sign, left, right = way
+    left_text, right_text = written(left), written(right)
+    if isinstance(left, tuple) and left[0] in "+-" and sign == "*":
+        left_text = f"({left_text})"
+    if isinstance(right, tuple) and (right[0] in "+-" or right[0] == sign == "*"):
+        right_text = f"({right_text})"
+    return left_text + sign + right_text

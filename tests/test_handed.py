@@ -1,0 +1,83 @@
+"""[2]: what is handed in stays as it is, and what is told is the asker's own."""
+
+import copy
+import unittest
+
+from putsigns.errors import PutError
+from putsigns.ordered import how_many_ways, nth_way, number_of_way
+from putsigns.ways import brackets_in, is_row, is_signs, is_way
+from putsigns.ways import numbers_of, signs_of, stretches_of, way_by
+from samples import REFUSALS, left_way, refusal
+
+WAY = ("*", ("-", 4, ("+", 5, 6)), ("*", 7, -8))
+ROW = [4, 5, 6, 7, -8]
+STRETCHES = [(3, 4), (0, 4), (1, 2), (0, 2)]
+
+ANSWERED = (
+    (is_row, [ROW]), (is_row, [[1, [2]]]), (is_signs, [["+"]]), (is_way, [WAY]), (is_way, [("+", [1], [2])]),
+    (numbers_of, [WAY]), (signs_of, [WAY]), (stretches_of, [WAY]), (brackets_in, [WAY]),
+    (way_by, [ROW, "-+**", STRETCHES]), (way_by, [ROW, ["-"], STRETCHES]), (way_by, [ROW, "-+**", [[0, 1], {}]]),
+    (how_many_ways, ["+-*", 5]), (nth_way, [ROW, "+-*", 700]), (number_of_way, [WAY, "+-*"]),
+)
+REFUSED = (
+    (numbers_of, [[1, 2]]), (signs_of, [("+", 1, [2])]), (stretches_of, [[WAY]]), (brackets_in, [{1: [2]}]),
+    (way_by, [[1, [2]], ["+"], STRETCHES]), (how_many_ways, [["+"], [1]]), (how_many_ways, ["+", [1]]),
+    (nth_way, [[ROW], ["+"], [0]]), (nth_way, [ROW, ["+"], [0]]), (nth_way, [ROW, "+", [0]]),
+    (number_of_way, [[WAY], ["+"]]), (number_of_way, [WAY, ["+"]]), (number_of_way, [WAY, "+"]),
+)
+
+
+class HandedIn(unittest.TestCase):
+    def test_is_the_same_behind_each_call(self):
+        for call, arguments in ANSWERED:
+            handed = copy.deepcopy(arguments)
+            call(*handed)
+            self.assertEqual(handed, arguments, call)
+
+    def test_is_the_same_behind_a_refused_call(self):
+        for call, arguments in REFUSED:
+            handed = copy.deepcopy(arguments)
+            self.assertIn(refusal(call, *handed), REFUSALS)
+            self.assertEqual(handed, arguments, call)
+
+    def test_is_not_kept(self):
+        row, stretches = list(ROW), list(STRETCHES)
+        joined, told = way_by(row, "-+**", stretches), nth_way(row, "+-*", number_of_way(WAY, "+-*"))
+        row[0] = 99
+        row.append(1)
+        stretches.clear()
+        self.assertEqual((joined, told), (WAY, WAY))
+        self.assertEqual(way_by(ROW, "-+**", STRETCHES), WAY)
+
+
+class Told(unittest.TestCase):
+    def test_the_same_is_answered_the_same(self):
+        before = [call(*arguments) for call, arguments in ANSWERED]
+        for call, arguments in REFUSED:
+            refusal(call, *arguments)
+        self.assertEqual([call(*arguments) for call, arguments in ANSWERED], before)
+
+    def test_refusals_are_the_same_again(self):
+        before = [refusal(call, *arguments) for call, arguments in REFUSED]
+        self.assertEqual([refusal(call, *arguments) for call, arguments in REFUSED], before)
+
+    def test_a_told_list_is_the_askers_own(self):
+        for call in (numbers_of, stretches_of):
+            for way in (7, WAY, left_way(list(range(9)))):
+                first, second = call(way), call(way)
+                due = list(first)
+                first.append((0, 0))
+                first.reverse()
+                self.assertEqual(second, due)
+                self.assertEqual(call(way), due)
+
+    def test_every_refusal_is_a_put_error_and_a_value_error(self):
+        for call, arguments in REFUSED:
+            with self.assertRaises(PutError):
+                call(*arguments)
+            with self.assertRaises(ValueError):
+                call(*arguments)
+
+
+if __name__ == "__main__":
+    unittest.main()

@@ -1,4 +1,4 @@
-"""The rules of LANGUAGE.md that are seen in one file alone, checked on the files of the package."""
+"""Some of the rules of LANGUAGE.md, not all, checked on the files of the package."""
 
 import ast
 import builtins

@@ -1,7 +1,7 @@
 """The ways of a row with signs to put, in their order: counted, by their numbers, and numbered."""
 
 from putsigns.errors import NoFit, NoNumber
-from putsigns.ways import MOST_NUMBERS, is_whole, join_signs, list_numbers, need_row, need_signs, need_way
+from putsigns.ways import MOST_NUMBERS, cuts_of, is_whole, join_signs, list_numbers, need_row, need_signs, need_way
 
 
 def how_many_ways(signs, many):
@@ -73,3 +73,20 @@ def number_at(way, signs, counts):
     # The signs to put stand in the order in which ways are ordered by their own sign.
     both = signs.index(sign) * counts[left] + number_at(left_way, signs, counts)
     return ahead + both * counts[right] + number_at(right_way, signs, counts)
+
+
+def joints_of(signs, counts, stretch):
+    """List how the ways of a stretch are joined, in their order: tuples (before, sign, behind, start, step).
+
+    The way with this sign, of the way of before with the number left and that of behind with the number right,
+    has the number start + left * step + right among the ways of the stretch.
+    """
+    joints = []
+    start = 0
+    for before, behind in cuts_of(stretch):
+        left_ways = counts[before[1] - before[0] + 1]
+        right_ways = counts[behind[1] - behind[0] + 1]
+        for sign in signs:
+            joints.append((before, sign, behind, start, right_ways))
+            start += left_ways * right_ways
+    return joints

@@ -1,6 +1,6 @@
 """Rows, signs to put and ways: what they are, and what a way is made of."""
 
-from putsigns.errors import NoRow, NoSigns, NoWay
+from putsigns.errors import NoNumber, NoRow, NoSigns, NoWay, TooMany
 
 MOST_NUMBERS = 9
 SIGNS = ("+", "-", "*")
@@ -64,6 +64,29 @@ def need_way(thing):
     """Refuse what is no way."""
     if not is_way(thing):
         raise NoWay("this is no way of one to nine whole numbers")
+
+
+def need_whole(thing):
+    """Refuse what is no whole number."""
+    if not is_whole(thing):
+        raise NoNumber("this is no whole number")
+
+
+def need_at_most(row, most):
+    """Refuse a row of more than so many numbers."""
+    if len(row) > most:
+        raise TooMany("this row has too many numbers for what is asked")
+
+
+def shorter_first(many):
+    """List all stretches of so many numbers, shorter ones ahead: so that of each the parts of a cut go ahead."""
+    return [(first, first + more) for more in range(many) for first in range(many - more)]
+
+
+def cuts_of(stretch):
+    """List the pairs of stretches into which a stretch can be cut, those with fewer numbers before the cut ahead."""
+    first, last = stretch
+    return [((first, cut), (cut + 1, last)) for cut in range(first, last)]
 
 
 def numbers_of(way):
@@ -144,17 +167,14 @@ def is_pair(thing):
 
 def join_stretch(row, between, stretches, stretch):
     """Join the way of one stretch at its first place where both sides are parts, or tell None."""
-    first, last = stretch
-    if first == last:
-        return row[first]
-    for cut in range(first, last):
-        before = (first, cut)
-        behind = (cut + 1, last)
+    if stretch[0] == stretch[1]:
+        return row[stretch[0]]
+    for before, behind in cuts_of(stretch):
         if is_part(before, stretches) and is_part(behind, stretches):
             # Were there a second such place, stretches would cross: so no other place needs to be tried.
             left = join_stretch(row, between, stretches, before)
             right = join_stretch(row, between, stretches, behind)
-            return None if left is None or right is None else (between[cut], left, right)
+            return None if left is None or right is None else (between[before[1]], left, right)
     return None
 
 
@@ -174,19 +194,29 @@ def count_brackets(way):
     if is_whole(way):
         return 0
     sign, left, right = way
-    here = 0
-    if left_in_brackets(sign, left):
-        here += 1
-    if right_in_brackets(sign, right):
-        here += 1
-    return here + count_brackets(left) + count_brackets(right)
+    return brackets_around(sign, own_sign(left), own_sign(right)) + count_brackets(left) + count_brackets(right)
 
 
-def left_in_brackets(sign, left):
-    """Tell whether a left way is written in brackets ahead of a sign."""
-    return not is_whole(left) and sign == "*" and left[0] != "*"
+def own_sign(way):
+    """Tell the own sign of what is known to be a way, an empty text of a number."""
+    return "" if is_whole(way) else way[0]
 
 
-def right_in_brackets(sign, right):
-    """Tell whether a right way is written in brackets behind a sign."""
-    return not is_whole(right) and (sign == "*" or right[0] != "*")
+def brackets_around(sign, left_sign, right_sign):
+    """Count the pairs of brackets around the left and the right way of a sign, told by their own signs."""
+    pairs = 0
+    if left_in_brackets(sign, left_sign):
+        pairs += 1
+    if right_in_brackets(sign, right_sign):
+        pairs += 1
+    return pairs
+
+
+def left_in_brackets(sign, left_sign):
+    """Tell whether a left way with this own sign is written in brackets ahead of a sign."""
+    return sign == "*" and left_sign in ("+", "-")
+
+
+def right_in_brackets(sign, right_sign):
+    """Tell whether a right way with this own sign is written in brackets behind a sign."""
+    return right_sign in ("+", "-") or (sign == "*" and right_sign == "*")

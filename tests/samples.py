@@ -1,6 +1,8 @@
 """What the tests share: things of all kinds, and ways listed and ordered by the document's words alone."""
 
 import functools
+import itertools
+import operator
 
 from putsigns import errors
 
@@ -10,6 +12,24 @@ REFUSALS = (
     errors.NoForm, errors.NoHolds, errors.TooMany, errors.NoText, errors.NoAsk,
 )
 NINE = [1, 2, 3, 4, 5, 6, 7, 8, 9]
+NO_ROWS = (5, "+", ("+", 1, 2), (1, 2), NINE + [10])
+NO_SIGNS = (5, [5], ("+", 1, 2), ["+"], "*+", "+-*/")
+NO_WAYS = ("+", [5])
+SHORT_ROWS = (
+    [7], [0], [-3], [10 ** 12 - 1],
+    [2, 3], [5, -5], [0, 0], [1, 1], [-2, -3], [0, -4], [-4, 0],
+    [1, 2, 3], [1, 1, 1], [0, -1, 0], [2, -3, 0], [-1, -2, -3], [3, 3, -3],
+    [4, -3, 2, -1], [0, 0, 0, 0], [1, 1, 1, 1], [2, 2, 2, 2], [0, 5, -1, 0], [-1, 0, 1, 0],
+    [10 ** 12 - 1, 1 - 10 ** 12, 3, 10 ** 11],
+    [1, 2, 3, 4, 5], [1, 1, 1, 1, 1], [2, 2, 2, 2, 2], [0, 1, 0, -1, 2], [-2, -2, -2, -2, -2], [3, 0, -3, 0, 3],
+    [0, 0, 0, 0, 0], [1, -1, 1, -1, 2], [10 ** 12 - 1, 2, -10 ** 11, 0, -7], [10 ** 50, -1, 0, 1, -10 ** 50],
+)
+# Great unlike numbers, above and below 0, all of twelve figures.
+TWELVE_FIGURES = [
+    999999999989, -912345678901, 876543219871, -777777777773, 666666666661,
+    -523456789013, 432109876543, -345678901237, 987654321019,
+]
+JOIN = {"+": operator.add, "-": operator.sub, "*": operator.mul}
 
 
 class Prickly:
@@ -107,3 +127,30 @@ def written(way):
     if isinstance(right, tuple) and (right[0] in "+-" or right[0] == sign == "*"):
         right_text = f"({right_text})"
     return left_text + sign + right_text
+
+
+def worth(way):
+    """The worth of a way by [8]."""
+    return way if isinstance(way, int) else JOIN[way[0]](worth(way[1]), worth(way[2]))
+
+
+@functools.cache
+def shapes(many, signs):
+    """All ways of so many numbers, in their order, with the places instead of the numbers."""
+    return ways_in_order(list(range(many)), signs)
+
+
+def filled(shape, row):
+    """The way of a shape with the row's numbers at their places."""
+    return row[shape] if isinstance(shape, int) else (shape[0], filled(shape[1], row), filled(shape[2], row))
+
+
+def listed(row, signs):
+    """All ways of a row in their order, each with its worth."""
+    ways = [filled(shape, row) for shape in shapes(len(row), signs)]
+    return [(way, worth(way)) for way in ways]
+
+
+def small_rows(numbers, many):
+    """All rows of so many of these numbers."""
+    return [list(row) for row in itertools.product(numbers, repeat=many)]

@@ -3,27 +3,53 @@
 import copy
 import unittest
 
+from putsigns.bounds import bounds_of, first_greatest, first_least, greatest_of, least_of
 from putsigns.errors import PutError
+from putsigns.every import can_be, how_many_with, how_many_worths, most_often, nearest_to, worths_of
 from putsigns.ordered import how_many_ways, nth_way, number_of_way
+from putsigns.told import fewest_brackets, way_to
 from putsigns.ways import brackets_in, is_row, is_signs, is_way
 from putsigns.ways import numbers_of, signs_of, stretches_of, way_by
+from putsigns.worths import hangs_by, part_worths, with_number, worth_of
 from samples import REFUSALS, left_way, refusal
 
 WAY = ("*", ("-", 4, ("+", 5, 6)), ("*", 7, -8))
 ROW = [4, 5, 6, 7, -8]
 STRETCHES = [(3, 4), (0, 4), (1, 2), (0, 2)]
+LONG = [3, 1, -4, 1, 5, -9, 2, 6]
 
 ANSWERED = (
     (is_row, [ROW]), (is_row, [[1, [2]]]), (is_signs, [["+"]]), (is_way, [WAY]), (is_way, [("+", [1], [2])]),
     (numbers_of, [WAY]), (signs_of, [WAY]), (stretches_of, [WAY]), (brackets_in, [WAY]),
     (way_by, [ROW, "-+**", STRETCHES]), (way_by, [ROW, ["-"], STRETCHES]), (way_by, [ROW, "-+**", [[0, 1], {}]]),
     (how_many_ways, ["+-*", 5]), (nth_way, [ROW, "+-*", 700]), (number_of_way, [WAY, "+-*"]),
+    (worth_of, [WAY]), (part_worths, [WAY]), (hangs_by, [WAY, 2]), (with_number, [WAY, 2, 10 ** 39]),
+    (greatest_of, [ROW, "+-*"]), (least_of, [ROW, "+-*"]), (first_greatest, [ROW, "+-*"]),
+    (first_least, [ROW, "+-*"]), (bounds_of, [ROW, "+-*"]),
+    (worths_of, [ROW, "+-*"]), (how_many_worths, [ROW, "+-*"]), (can_be, [ROW, "+-*", 392]),
+    (nearest_to, [ROW, "+-*", 391]), (how_many_with, [ROW, "+-*", 392]), (most_often, [ROW, "+-*"]),
+    (way_to, [ROW, "+-*", 392]), (fewest_brackets, [ROW, "+-*", 392]),
 )
 REFUSED = (
     (numbers_of, [[1, 2]]), (signs_of, [("+", 1, [2])]), (stretches_of, [[WAY]]), (brackets_in, [{1: [2]}]),
     (way_by, [[1, [2]], ["+"], STRETCHES]), (how_many_ways, [["+"], [1]]), (how_many_ways, ["+", [1]]),
     (nth_way, [[ROW], ["+"], [0]]), (nth_way, [ROW, ["+"], [0]]), (nth_way, [ROW, "+", [0]]),
     (number_of_way, [[WAY], ["+"]]), (number_of_way, [WAY, ["+"]]), (number_of_way, [WAY, "+"]),
+    (worth_of, [[WAY]]), (part_worths, [[WAY]]), (hangs_by, [[WAY], 0]), (hangs_by, [WAY, [0]]),
+    (with_number, [[WAY], 0, 1]), (with_number, [WAY, [0], 1]), (with_number, [WAY, 0, [1]]),
+    (can_be, [[ROW], "+", 1]), (can_be, [ROW, ["+"], 1]), (can_be, [ROW, "+", [1]]), (can_be, [LONG, "+", 1]),
+    (nearest_to, [ROW, "+", [1]]), (nearest_to, [LONG, "+", 1]), (how_many_with, [ROW, "+", {1: [1]}]),
+    (how_many_with, [LONG, "+", 1]), (way_to, [[ROW], "+", 1]), (way_to, [ROW, ["+"], 1]),
+    (way_to, [ROW, "+", [1]]), (way_to, [LONG, "+", 1]), (fewest_brackets, [ROW, "+", [1]]),
+    (fewest_brackets, [LONG, "+", 1]),
+) + tuple(
+    (call, list(arguments))
+    for call in (greatest_of, least_of, first_greatest, first_least, bounds_of)
+    for arguments in ([[ROW], "+"], [ROW, ["+"]], [[1, [2]], {"+": [1]}])
+) + tuple(
+    (call, list(arguments))
+    for call in (worths_of, how_many_worths, most_often)
+    for arguments in ([[ROW], "+"], [ROW, ["+"]], [LONG, "+"])
 )
 
 
@@ -70,6 +96,33 @@ class Told(unittest.TestCase):
                 first.reverse()
                 self.assertEqual(second, due)
                 self.assertEqual(call(way), due)
+
+    def test_told_lists_and_dicts_are_the_askers_own(self):
+        for call, arguments in ANSWERED:
+            first, second = call(*arguments), call(*arguments)
+            if not isinstance(first, (list, dict)):
+                continue
+            self.assertIsNot(first, second)
+            due = copy.deepcopy(first)
+            if isinstance(first, dict):
+                first[(0, 0)] = first[(7, 7)] = None
+                del first[(0, len(ROW) - 1)]
+            else:
+                first.insert(0, 99)
+                first.reverse()
+            self.assertEqual(second, due, call)
+            self.assertEqual(call(*arguments), due, call)
+
+    def test_what_becomes_of_a_row_changes_nothing_told(self):
+        for call, arguments in ANSWERED:
+            handed = copy.deepcopy(arguments)
+            told = call(*handed)
+            due = copy.deepcopy(told)
+            for thing in handed:
+                if isinstance(thing, list):
+                    thing.clear()
+            self.assertEqual(told, due, call)
+            self.assertEqual(call(*arguments), due, call)
 
     def test_every_refusal_is_a_put_error_and_a_value_error(self):
         for call, arguments in REFUSED:

@@ -1,14 +1,13 @@
 """The ways of a row with signs to put, in their order: counted, by their numbers, and numbered."""
 
 from putsigns.errors import NoFit, NoNumber
-from putsigns.ways import MOST_NUMBERS, cuts_of, is_whole, join_signs, list_numbers, need_row, need_signs, need_way
+from putsigns.ways import cuts_of, is_whole, join_signs, list_numbers, need_many, need_row, need_signs, need_way
 
 
 def how_many_ways(signs, many):
     """Tell how many ways rows of so many numbers have with signs to put."""
     need_signs(signs)
-    if not is_whole(many) or not 1 <= many <= MOST_NUMBERS:
-        raise NoNumber("rows have one to nine numbers")
+    need_many(many)
     return counts_up_to(signs, many)[many]
 
 
@@ -26,10 +25,15 @@ def number_of_way(way, signs):
     """Tell the number of a way among the ways of its row with signs to put."""
     need_way(way)
     need_signs(signs)
-    if not all([sign in signs for sign in join_signs(way)]):
+    if not has_signs_among(way, signs):
         raise NoFit("a sign of this way is not among the signs to put")
     counts = counts_up_to(signs, len(list_numbers(way)))
     return number_at(way, signs, counts)
+
+
+def has_signs_among(way, signs):
+    """Tell whether all signs of what is known to be a way are among the signs to put."""
+    return all([sign in signs for sign in join_signs(way)])
 
 
 def counts_up_to(signs, many):

@@ -25,6 +25,11 @@ def is_signs(thing):
     return isinstance(thing, str) and thing in SIGNS_TO_PUT
 
 
+def is_many(thing):
+    """Tell of anything whether rows may have so many numbers."""
+    return is_whole(thing) and 1 <= thing <= MOST_NUMBERS
+
+
 def is_sign(thing):
     """Tell whether a thing is one of the three signs."""
     return isinstance(thing, str) and thing in SIGNS
@@ -72,6 +77,12 @@ def need_whole(thing):
         raise NoNumber("this is no whole number")
 
 
+def need_many(thing):
+    """Refuse what rows can not have as how many numbers they have."""
+    if not is_many(thing):
+        raise NoNumber("rows have one to nine numbers")
+
+
 def need_at_most(row, most):
     """Refuse a row of more than so many numbers."""
     if len(row) > most:
@@ -81,6 +92,14 @@ def need_at_most(row, most):
 def shorter_first(many):
     """List all stretches of so many numbers, shorter ones ahead: so that of each the parts of a cut go ahead."""
     return [(first, first + more) for more in range(many) for first in range(many - more)]
+
+
+def has_all_stretches(thing, many):
+    """Tell of anything whether it is a dict from all stretches of so many numbers, and from nothing else."""
+    stretches = shorter_first(many)
+    if not isinstance(thing, dict) or len(thing) != len(stretches):
+        return False
+    return all([stretch in thing for stretch in stretches])
 
 
 def cuts_of(stretch):

@@ -151,6 +151,62 @@ def listed(row, signs):
     return [(way, worth(way)) for way in ways]
 
 
+def form(way):
+    """The plain form of a way by [16]."""
+    if isinstance(way, int):
+        return way
+    sign, left, right = way
+    if sign == "*":
+        return ("times", tuple(factors(left) + factors(right)))
+    turned = [({"+": "-", "-": "+"}[term], inner) for term, inner in terms(right)]
+    return ("sum", tuple(terms(left) + (terms(right) if sign == "+" else turned)))
+
+
+def terms(way):
+    return list(form(way)[1]) if isinstance(way, tuple) and way[0] in "+-" else [("+", form(way))]
+
+
+def factors(way):
+    return list(form(way)[1]) if isinstance(way, tuple) and way[0] == "*" else [form(way)]
+
+
+def count_in_form(one):
+    """How many numbers a form has."""
+    if isinstance(one, int):
+        return 1
+    return sum(count_in_form(part[1] if one[0] == "sum" else part) for part in one[1])
+
+
+def compare_forms(one, other):
+    """Below 0 where the one form goes ahead of the other form of the same row, by [17]."""
+    if one == other:
+        return 0
+    if one[0] != other[0]:
+        return -1 if one[0] == "sum" else 1
+    for place, (part, other_part) in enumerate(zip(one[1], other[1])):
+        by_sign = 0
+        if one[0] == "sum":
+            if place > 0:
+                by_sign = "+-".index(part[0]) - "+-".index(other_part[0])
+            part, other_part = part[1], other_part[1]
+        by_many = count_in_form(part) - count_in_form(other_part)
+        order = by_sign or by_many or compare_forms(part, other_part)
+        if order:
+            return order
+    raise AssertionError("forms of one row differ in some part")
+
+
+def forms_in_order(row, signs):
+    """All forms of a row, in their order."""
+    unlike = {form(way) for way, number in listed(row, signs)}
+    return sorted(unlike, key=functools.cmp_to_key(compare_forms))
+
+
+def all_stretches(many):
+    """All stretches of so many numbers."""
+    return [(i, j) for i in range(many) for j in range(i, many)]
+
+
 def small_rows(numbers, many):
     """All rows of so many of these numbers."""
     return [list(row) for row in itertools.product(numbers, repeat=many)]

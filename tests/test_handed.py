@@ -4,9 +4,13 @@ import copy
 import unittest
 
 from putsigns.bounds import bounds_of, first_greatest, first_least, greatest_of, least_of
+from putsigns.counted import first_way, how_many_forms, how_many_twins, nth_form, number_of_form
 from putsigns.errors import PutError
 from putsigns.every import can_be, how_many_with, how_many_worths, most_often, nearest_to, worths_of
+from putsigns.flat import flat_way_to, flat_worths
+from putsigns.forms import are_twins, form_of
 from putsigns.ordered import how_many_ways, nth_way, number_of_way
+from putsigns.papers import bounds_paper, bounds_say, greatest_shown, least_shown
 from putsigns.told import fewest_brackets, way_to
 from putsigns.ways import brackets_in, is_row, is_signs, is_way
 from putsigns.ways import numbers_of, signs_of, stretches_of, way_by
@@ -17,6 +21,8 @@ WAY = ("*", ("-", 4, ("+", 5, 6)), ("*", 7, -8))
 ROW = [4, 5, 6, 7, -8]
 STRETCHES = [(3, 4), (0, 4), (1, 2), (0, 2)]
 LONG = [3, 1, -4, 1, 5, -9, 2, 6]
+FORM = ("times", (("sum", (("+", 4), ("-", 5), ("-", 6))), 7, -8))
+PAPER = bounds_paper(ROW, "+-*")
 
 ANSWERED = (
     (is_row, [ROW]), (is_row, [[1, [2]]]), (is_signs, [["+"]]), (is_way, [WAY]), (is_way, [("+", [1], [2])]),
@@ -29,6 +35,12 @@ ANSWERED = (
     (worths_of, [ROW, "+-*"]), (how_many_worths, [ROW, "+-*"]), (can_be, [ROW, "+-*", 392]),
     (nearest_to, [ROW, "+-*", 391]), (how_many_with, [ROW, "+-*", 392]), (most_often, [ROW, "+-*"]),
     (way_to, [ROW, "+-*", 392]), (fewest_brackets, [ROW, "+-*", 392]),
+    (flat_worths, [ROW, "+-*"]), (flat_way_to, [ROW, "+-*", -63]), (flat_way_to, [LONG, "+-*", 10 ** 39]),
+    (form_of, [WAY]), (are_twins, [WAY, WAY]), (how_many_forms, ["+-*", 5]), (nth_form, [ROW, "+-*", 300]),
+    (number_of_form, [ROW, "+-*", FORM]), (first_way, [ROW, "+-*", FORM]), (how_many_twins, [ROW, "+-*", FORM]),
+    (bounds_paper, [ROW, "+-*"]), (bounds_say, [ROW, "+-*", PAPER]), (bounds_say, [ROW, "+-*", {(0, 0): [4, 4]}]),
+    (bounds_say, [ROW, "+-*", {**PAPER, (0, 4): [0, 0]}]), (greatest_shown, [ROW, "+-*", WAY, PAPER]),
+    (least_shown, [ROW, "+-*", [WAY], PAPER]), (least_shown, [ROW, "+-*", WAY, [PAPER]]),
 )
 REFUSED = (
     (numbers_of, [[1, 2]]), (signs_of, [("+", 1, [2])]), (stretches_of, [[WAY]]), (brackets_in, [{1: [2]}]),
@@ -41,10 +53,25 @@ REFUSED = (
     (nearest_to, [ROW, "+", [1]]), (nearest_to, [LONG, "+", 1]), (how_many_with, [ROW, "+", {1: [1]}]),
     (how_many_with, [LONG, "+", 1]), (way_to, [[ROW], "+", 1]), (way_to, [ROW, ["+"], 1]),
     (way_to, [ROW, "+", [1]]), (way_to, [LONG, "+", 1]), (fewest_brackets, [ROW, "+", [1]]),
-    (fewest_brackets, [LONG, "+", 1]),
+    (fewest_brackets, [LONG, "+", 1]), (flat_way_to, [[ROW], "+", 1]), (flat_way_to, [ROW, ["+"], 1]),
+    (flat_way_to, [ROW, "+", [1]]), (form_of, [[WAY]]), (are_twins, [[WAY], WAY]), (are_twins, [WAY, [WAY]]),
+    (how_many_forms, [["+"], 5]), (how_many_forms, ["+", [5]]), (nth_form, [[ROW], "+", 0]),
+    (nth_form, [ROW, ["+"], 0]), (nth_form, [ROW, "+", [0]]), (nth_form, [ROW, "+", 1]),
 ) + tuple(
     (call, list(arguments))
-    for call in (greatest_of, least_of, first_greatest, first_least, bounds_of)
+    for call in (number_of_form, first_way, how_many_twins, bounds_say)
+    for arguments in ([[ROW], "+-*", FORM], [ROW, ["+-*"], FORM])
+) + tuple(
+    (call, list(arguments))
+    for call in (number_of_form, first_way, how_many_twins)
+    for arguments in ([ROW, "+-*", [FORM]], [ROW, "+-*", ("times", [7, -8])], [ROW, "+-", FORM])
+) + tuple(
+    (call, list(arguments))
+    for call in (greatest_shown, least_shown)
+    for arguments in ([[ROW], "+-*", WAY, PAPER], [ROW, ["+-*"], WAY, PAPER])
+) + tuple(
+    (call, list(arguments))
+    for call in (greatest_of, least_of, first_greatest, first_least, bounds_of, flat_worths, bounds_paper)
     for arguments in ([[ROW], "+"], [ROW, ["+"]], [[1, [2]], {"+": [1]}])
 ) + tuple(
     (call, list(arguments))
@@ -119,7 +146,7 @@ class Told(unittest.TestCase):
             told = call(*handed)
             due = copy.deepcopy(told)
             for thing in handed:
-                if isinstance(thing, list):
+                if isinstance(thing, (list, dict)):
                     thing.clear()
             self.assertEqual(told, due, call)
             self.assertEqual(call(*arguments), due, call)

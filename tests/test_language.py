@@ -107,6 +107,64 @@ class Language(unittest.TestCase):
                 self.assertRegex(name, r"^([A-Za-z][A-Za-z0-9_]*|__(init|eq|repr|str|len)__)$", where)
                 self.assertFalse(hasattr(builtins, name), where)
 
+    def test_local_names_are_no_imports_and_no_classes(self):
+        for name, source in sources().items():
+            tree = ast.parse(source)
+            kept = {bound for top in tree.body if isinstance(top, (ast.ImportFrom, ast.ClassDef))
+                    for bound in bound_names(top)}
+            for node in ast.walk(tree):
+                if isinstance(node, (ast.Name, ast.arg)):
+                    self.assertFalse(kept & set(bound_names(node)), f"{name}.py:{node.lineno}")
+
+    def test_no_two_files_import_from_each_other(self):
+        behind = {name: {node.module.split(".")[1] for node in ast.walk(ast.parse(source))
+                         if isinstance(node, ast.ImportFrom)} for name, source in sources().items()}
+        while behind:
+            ready = [name for name in behind if not behind[name] & set(behind)]
+            self.assertTrue(ready, behind)
+            behind = {name: behind[name] for name in behind if name not in ready}
+
+    def test_builtins_are_called(self):
+        kinds = set("int str bool bytes list tuple dict".split())
+        for name, source in sources().items():
+            tree = ast.parse(source)
+            called = {id(node.func) for node in ast.walk(tree) if isinstance(node, ast.Call)}
+            handlers = {id(base) for node in ast.walk(tree) if isinstance(node, ast.ClassDef) for base in node.bases}
+            for node in ast.walk(tree):
+                if isinstance(node, ast.Name) and hasattr(builtins, node.id) and node.id not in kinds:
+                    self.assertIn(id(node), called | handlers, f"{name}.py:{node.lineno}")
+
+    def test_iterated_at_once(self):
+        for name, source in sources().items():
+            tree = ast.parse(source)
+            fit = set()
+            for node in ast.walk(tree):
+                if isinstance(node, (ast.For, ast.comprehension)):
+                    fit.add(id(node.iter))
+                if isinstance(node, ast.Call):
+                    fit |= {id(argument) for argument in node.args}
+                if isinstance(node, ast.Compare) and isinstance(node.ops[-1], (ast.In, ast.NotIn)):
+                    fit.add(id(node.comparators[-1]))
+            for node in ast.walk(tree):
+                if isinstance(node, ast.Call):
+                    called = getattr(node.func, "id", getattr(node.func, "attr", None))
+                    if called in ("zip", "enumerate", "reversed", "range", "items", "keys", "values"):
+                        self.assertIn(id(node), fit, f"{name}.py:{node.lineno}")
+
+    def test_sets_are_made_in_sorted_or_len(self):
+        for name, source in sources().items():
+            tree = ast.parse(source)
+            fit = {id(argument) for node in ast.walk(tree) if isinstance(node, ast.Call)
+                   and getattr(node.func, "id", "") in ("sorted", "len") for argument in node.args}
+            for node in ast.walk(tree):
+                if isinstance(node, (ast.Set, ast.SetComp)) or getattr(getattr(node, "func", None), "id", "") == "set":
+                    self.assertIn(id(node), fit, f"{name}.py:{node.lineno}")
+
+    def test_no_power_but_by_a_literal(self):
+        for where, node in nodes(ast.BinOp):
+            if isinstance(node.op, ast.Pow):
+                self.assertIsInstance(node.right, ast.Constant, where)
+
     def test_builtins(self):
         for where, node in nodes(ast.Name):
             if hasattr(builtins, node.id):

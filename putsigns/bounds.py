@@ -44,14 +44,14 @@ def picks_of_row(row, signs):
     return picks_by_stretch(row, signs)[(0, len(row) - 1)]
 
 
-def picks_by_stretch(row, signs):
-    """Pick ways of each stretch as pick_three does, a dict from the stretches."""
+def picks_by_stretch(row, signs, left_out=()):
+    """Pick ways of each stretch as pick_three does, a dict from the stretches; none of what is left out."""
     counts = counts_up_to(signs, len(row))
     picks = {}
     for stretch in shorter_first(len(row)):
         first, last = stretch
         found = [(row[first], 0)] if first == last else join_picks(picks, joints_of(signs, counts, stretch))
-        picks[stretch] = pick_three(found)
+        picks[stretch] = pick_three(found) if found and stretch not in left_out else ()
     return picks
 
 

@@ -207,6 +207,20 @@ def all_stretches(many):
     return [(i, j) for i in range(many) for j in range(i, many)]
 
 
+def long_stretches(many):
+    """All stretches of two numbers and more of so many numbers."""
+    return [(i, j) for i, j in all_stretches(many) if i < j]
+
+
+def parts_in(way, first=0):
+    """The stretches of all parts of two numbers and more of a way, a set."""
+    if isinstance(way, int):
+        return set()
+    cut = first + count_numbers(way[1])
+    last = first + count_numbers(way) - 1
+    return {(first, last)} | parts_in(way[1], first) | parts_in(way[2], cut)
+
+
 def small_rows(numbers, many):
     """All rows of so many of these numbers."""
     return [list(row) for row in itertools.product(numbers, repeat=many)]

@@ -13,7 +13,9 @@ isinstance ord repr any all divmod Exception ValueError TypeError KeyError Index
 ArithmeticError OverflowError RuntimeError NotImplementedError StopIteration""".split())
 METHODS = set("""append clear copy count endswith extend find get index insert isalnum isalpha isdigit islower isspace
 isupper items join keys ljust lower lstrip partition pop remove replace reverse rfind rjust rpartition rsplit rstrip
-setdefault split splitlines startswith strip update upper values zfill bit_length add discard sort""".split())
+setdefault split splitlines startswith strip update upper values zfill bit_length add discard sort
+title capitalize swapcase casefold center removeprefix removesuffix rindex isascii isdecimal isnumeric istitle
+isidentifier isprintable""".split())
 WORDS = re.compile(r"\b(type|typing|typing_extensions|enum|Enum|IntEnum|StrEnum|Flag|IntFlag|Generic|Protocol|ABC|"
                    r"ABCMeta|namedtuple|NamedTuple|TypedDict|TYPE_CHECKING|abstractmethod)\b|"
                    r"dataclass|overload|contextmanager")
@@ -105,7 +107,7 @@ class Language(unittest.TestCase):
         for where, node in nodes((ast.FunctionDef, ast.ClassDef, ast.Name, ast.arg, ast.ImportFrom)):
             for name in bound_names(node):
                 self.assertRegex(name, r"^([A-Za-z][A-Za-z0-9_]*|__(init|eq|repr|str|len)__)$", where)
-                self.assertFalse(hasattr(builtins, name), where)
+                self.assertFalse(hasattr(builtins, name) and not name.startswith("__"), where)
 
     def test_local_names_are_no_imports_and_no_classes(self):
         for name, source in sources().items():
